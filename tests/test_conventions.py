@@ -1,0 +1,137 @@
+"""Tests of the conventions [0.2], for all functions of the interface at once."""
+
+import copy
+import importlib
+import inspect
+
+from hoursheets.errors import HourError
+from tests.helper import Case, odd_values
+
+# For each module: each function, its parameters in order, and some right arguments.
+INTERFACE = {
+    "clocks": {
+        "is_clock": {"thing": 12},
+        "is_hour": {"n": 12, "thing": 11},
+        "is_unit": {"n": 12, "thing": 11},
+        "units": {"n": 12},
+        "divisors": {"n": 12},
+        "depth": {"n": 12, "hour": 8},
+        "order": {"n": 12, "hour": 8},
+        "inverse": {"n": 12, "unit": 5},
+        "unit_between": {"n": 12, "one": 2, "other": 10},
+    },
+    "sums": {
+        "sign_number": {"m": 30},
+        "unit_number": {"m": 12},
+        "sum_number": {"m": 6, "a": 2},
+        "depth_table": {"n": 4},
+    },
+    "rows": {
+        "is_row": {"n": 6, "thing": (1, 5)},
+        "is_sheet": {"n": 6, "thing": ((1, 5),)},
+        "row_sum": {"n": 6, "one": (1, 5), "other": (2, 3)},
+        "row_product": {"n": 6, "one": (1, 5), "other": (2, 4)},
+        "row_multiple": {"n": 6, "number": -1, "row": (1, 0)},
+        "word_of": {"n": 6, "sheet": ((1, 2, 0), (0, 3, 1)), "multipliers": (2, 1)},
+        "columns_of": {"n": 6, "sheet": ((1, 2, 0), (0, 3, 1))},
+        "sheet_of": {"n": 6, "columns": ((1, 0), (2, 3), (0, 1))},
+    },
+}
+
+# Parameters that any value may be passed as: as `thing`, or with an error that is named for it.
+LOOKED_AT = (
+    "thing", "hour", "unit", "one", "other", "row", "sheet", "multipliers", "columns", "w",
+)
+
+
+def functions():
+    """All functions of the interface with their right arguments."""
+    found = []
+    for module, table in INTERFACE.items():
+        for name, arguments in table.items():
+            found.append((getattr(importlib.import_module("hoursheets." + module), name), arguments))
+    return found
+
+
+def outcome(function, arguments):
+    """What a call returns or raises, told with kinds."""
+    try:
+        return repr(function(**arguments))
+    except HourError as error:
+        return type(error).__name__ + repr(vars(error))
+
+
+def parts(thing):
+    """All things that a thing consists of, with the thing itself."""
+    found = [thing]
+    if isinstance(thing, (tuple, list)):
+        for part in thing:
+            found.extend(parts(part))
+    if isinstance(thing, dict):
+        for key, part in thing.items():
+            found.extend(parts(key) + parts(part))
+    return found
+
+
+class Conventions(Case):
+    def test_parameters_have_the_names_of_the_interface(self):
+        for function, arguments in functions():
+            parameters = inspect.signature(function).parameters.values()
+            self.assertEqual([parameter.name for parameter in parameters], list(arguments), function)
+            for parameter in parameters:
+                self.assertIs(parameter.kind, inspect.Parameter.POSITIONAL_OR_KEYWORD)
+                self.assertIs(parameter.default, inspect.Parameter.empty)
+
+    def test_by_position_by_name_and_mixed(self):
+        for function, arguments in functions():
+            values = list(arguments.values())
+            expected = function(*values)
+            self.same(function(**arguments), expected)
+            backwards = {name: arguments[name] for name in reversed(list(arguments))}
+            self.same(function(**backwards), expected)
+            rest = {name: arguments[name] for name in list(arguments)[1:]}
+            self.same(function(values[0], **rest), expected)
+
+    def test_functions_stand_in_their_files(self):
+        for module, table in INTERFACE.items():
+            for name in table:
+                function = getattr(importlib.import_module("hoursheets." + module), name)
+                self.assertEqual((function.__module__, function.__name__), ("hoursheets." + module, name))
+
+    def test_results_are_tuples_integers_strings_bools_and_none(self):
+        for function, arguments in functions():
+            for part in parts(function(**arguments)):
+                self.assertIn(type(part), (tuple, int, str, bool, type(None)), function)
+
+    def test_whether_is_answered_by_a_bool(self):
+        for function, arguments in functions():
+            name = function.__name__
+            if name.startswith(("is_", "are_", "can_", "has_")) or name.endswith("_holds") or name == "same_words":
+                self.assertIs(type(function(**arguments)), bool, name)
+
+    def test_the_same_call_answers_alike(self):
+        for function, arguments in functions():
+            for name in arguments:
+                for thing in odd_values() if name in LOOKED_AT else [arguments[name]]:
+                    call = {**arguments, name: thing}
+                    self.assertEqual(outcome(function, call), outcome(function, call))
+
+    def test_nothing_that_is_passed_is_changed(self):
+        for function, arguments in functions():
+            for name in arguments:
+                for thing in odd_values() if name in LOOKED_AT else [arguments[name]]:
+                    call = {**arguments, name: thing}
+                    kept = copy.deepcopy(call)
+                    outcome(function, call)
+                    self.same(call, kept)
+
+    def test_any_value_raises_no_other_error(self):
+        for function, arguments in functions():
+            asks = function.__name__.startswith(("is_", "are_", "can_", "has_")) or function.__name__.endswith("_holds")
+            for name in arguments:
+                for thing in odd_values() if name in LOOKED_AT else []:
+                    call = {**arguments, name: thing}
+                    if asks and name == "thing":
+                        self.assertIs(type(function(**call)), bool)
+                    else:
+                        outcome(function, call)
