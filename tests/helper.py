@@ -30,6 +30,20 @@ def odd_values():
     ]
 
 
+LONGEST = tuple(k % 4 for k in range(20))
+
+
+def no_rows():
+    """Values that are no row of the clock 4."""
+    return odd_values() + [(4,), (0, 4), (0, -1), (3,) * 21, [0, 1], "01", ((0, 1),), (0, 1, 2, True)]
+
+
+def no_sheets():
+    """Values that are no sheet of the clock 4."""
+    wide = tuple((1,) * 19 + (k,) for k in range(5))
+    return odd_values() + [(0, 1), ((4,),), ((0, 1), (4, 0)), [(0, 1)], wide, (LONGEST, LONGEST[:-1]), (LONGEST,) * 21]
+
+
 def rows_of(n, length):
     """All rows of a length, ascending."""
     return list(itertools.product(range(n), repeat=length))

@@ -36,6 +36,43 @@ INTERFACE = {
         "columns_of": {"n": 6, "sheet": ((1, 2, 0), (0, 3, 1))},
         "sheet_of": {"n": 6, "columns": ((1, 0), (2, 3), (0, 1))},
     },
+    "reduced": {
+        "reduced": {"n": 4, "sheet": ((2, 1),)},
+        "is_reduced": {"n": 4, "thing": ((2, 1), (0, 2))},
+        "many_words": {"n": 4, "sheet": ((2, 1),)},
+        "words_of": {"n": 4, "sheet": ((2, 1),)},
+        "orders_of_words": {"n": 4, "sheet": ((2, 1),)},
+        "same_words": {"n": 4, "one": ((2, 1),), "other": ((2, 3), (0, 2))},
+    },
+    "within": {
+        "judge_within": {"n": 4, "sheet": ((2, 1),), "row": (0, 2)},
+        "within_holds": {"n": 4, "sheet": ((2, 1),), "row": (0, 1), "thing": ("barred", (1, 2))},
+        "is_within": {"n": 4, "sheet": ((2, 1),), "row": (0, 2)},
+        "least_on_shelf": {"n": 4, "sheet": ((2, 1),), "row": (3, 3)},
+    },
+    "annulled": {
+        "annulled": {"n": 4, "sheet": ((2, 1),)},
+        "is_annulled": {"n": 4, "sheet": ((2, 1),), "thing": (2, 0)},
+        "sum_of": {"n": 4, "one": ((2, 1),), "other": ((0, 1),)},
+        "meet_of": {"n": 4, "one": ((2, 1),), "other": ((0, 1),)},
+        "multiples_of": {"n": 4, "sheet": ((2, 1),), "t": 2},
+        "part_of": {"n": 4, "sheet": ((2, 1),), "t": 2},
+        "divided": {"n": 4, "sheet": ((2, 1),), "t": 2},
+        "has_words": {"n": 4, "one": ((2, 1),), "other": ((0, 2),)},
+    },
+    "weighings": {
+        "is_weighing": {"n": 6, "thing": (0, 1, 2, 3, 2, 1)},
+        "plain_weighing": {"n": 6},
+        "round_weighing": {"n": 6},
+        "square_weighing": {"n": 6},
+        "level_weighing": {"n": 6},
+        "weight_of": {"n": 6, "w": (0, 1, 2, 3, 2, 1), "row": (2, 3, 0)},
+        "keepers": {"n": 6, "w": (0, 1, 2, 3, 2, 1)},
+        "classes": {"n": 6, "w": (0, 1, 2, 3, 2, 1)},
+        "weight_table": {"n": 6, "w": (0, 1, 2, 3, 2, 1)},
+        "is_alike_on_units": {"n": 6, "w": (0, 1, 2, 3, 2, 1)},
+        "depth_sums": {"n": 6, "w": (0, 1, 2, 3, 2, 1)},
+    },
 }
 
 # Parameters that any value may be passed as: as `thing`, or with an error that is named for it.

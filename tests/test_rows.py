@@ -4,21 +4,9 @@ from hoursheets.errors import BadRow, BadSheet, OtherLengths
 from hoursheets.rows import (
     columns_of, is_row, is_sheet, row_multiple, row_product, row_sum, sheet_of, word_of,
 )
-from tests.helper import Case, chance, chance_sheet, odd_values, plain_word, rows_of, small_sheets
-
-LONGEST = tuple(k % 4 for k in range(20))
-
-
-def no_rows():
-    """Values that are no row of the clock 4."""
-    return odd_values() + [(4,), (0, 4), (0, -1), (3,) * 21, [0, 1], "01", ((0, 1),), (0, 1, 2, True)]
-
-
-def no_sheets():
-    """Values that are no sheet of the clock 4."""
-    wide = tuple((1,) * 19 + (k,) for k in range(5))
-    return odd_values() + [(0, 1), ((4,),), ((0, 1), (4, 0)), [(0, 1)], wide, (LONGEST, LONGEST[:-1]), (LONGEST,) * 21]
-
+from tests.helper import (
+    LONGEST, Case, chance, chance_sheet, no_rows, no_sheets, plain_word, rows_of, small_sheets,
+)
 
 class Rows(Case):
     def test_examples(self):
