@@ -1,11 +1,10 @@
 """Weighings of hours [4.1], those alike on units [4.4], and some weighings of each clock [4.5]."""
 
-from math import gcd, lcm
-
 from hoursheets.clocks import divisors, is_whole, order, units
 from hoursheets.errors import BadWeighing
 from hoursheets.rows import need_row
 from hoursheets.sums import sign_number, unit_number
+from hoursheets.wholes import common_divisor, common_multiple
 
 MOST_WEIGHT = 10 ** 6
 
@@ -46,21 +45,22 @@ def square_weighing(n):
 def level_weighing(n):
     """The least weighing that is to 1 - mu(m) / phi(m) alike at all hours, of the order m each."""
     orders = [order(n, hour) for hour in range(1, n)]
-    bottom = 1
-    for m in orders:
-        bottom = lcm(bottom, unit_number(m))
+    bottom = common_multiple([unit_number(m) for m in orders])
     weights = [bottom - sign_number(m) * (bottom // unit_number(m)) for m in orders]
-    common = 0
-    for weight in weights:
-        common = gcd(common, weight)
+    common = common_divisor(weights)
     return (0,) + tuple([weight // common for weight in weights])
+
+
+def weigh(w, row):
+    """What a row weighs, both known to be a weighing and a row."""
+    return sum(w[hour] for hour in row)
 
 
 def weight_of(n, w, row):
     """What a row weighs."""
     need_weighing(n, w)
     need_row(n, row)
-    return sum(w[hour] for hour in row)
+    return weigh(w, row)
 
 
 def is_keeper(n, w, unit):

@@ -5,16 +5,21 @@ from hoursheets.leads import least_row, marked, reduced_rows
 from hoursheets.rows import is_multipliers, need_row_of, product_of, word_of, zero_row
 
 
-def judge_within(n, sheet, row):
-    """A certificate that the row is a word, or that it is barred."""
-    need_row_of(n, sheet, row)
+def judged(n, sheet, leading, row):
+    """A certificate for a sheet and a row, by the rows of the reduced sheet for the marked rows of the sheet."""
     length = len(row)
-    left = least_row(n, reduced_rows(n, marked(sheet, 1)), row + zero_row(len(sheet)))
+    left = least_row(n, leading, row + zero_row(len(sheet)))
     if not any(left[:length]):
         # What was taken away has left its multipliers at the marks, with the sign turned.
         return ("sum", tuple([-mark % n for mark in left[length:]]))
     bars = [other for other in annulled(n, sheet) if product_of(n, other, row) != 0]
     return ("barred", bars[0])
+
+
+def judge_within(n, sheet, row):
+    """A certificate that the row is a word, or that it is barred."""
+    need_row_of(n, sheet, row)
+    return judged(n, sheet, reduced_rows(n, marked(sheet, 1)), row)
 
 
 def within_holds(n, sheet, row, thing):

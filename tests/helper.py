@@ -3,8 +3,11 @@
 import itertools
 import random
 import unittest
+from fractions import Fraction
+from math import gcd
 
 from hoursheets import errors
+from hoursheets.weighings import level_weighing
 
 
 def nested(depth):
@@ -30,6 +33,7 @@ def odd_values():
     ]
 
 
+CLOCKS = range(2, 31)
 LONGEST = tuple(k % 4 for k in range(20))
 
 
@@ -107,6 +111,162 @@ def large_sheets(seed, many):
         (n, chance_sheet(source, n, source.randrange(1, 7), source.randrange(15, 21)))
         for n in source.choices(range(2, 31), k=many)
     ]
+
+
+def plain_units(n):
+    return [u for u in range(n) if gcd(u, n) == 1]
+
+
+def plain_divisors(n):
+    return [d for d in range(1, n + 1) if n % d == 0]
+
+
+def plain_sign(m):
+    return 1 if m == 1 else -sum(plain_sign(d) for d in plain_divisors(m)[:-1])
+
+
+def no_weighings():
+    """Values that are no weighing of the clock 4."""
+    good = (0, 1, 2, 1)
+    things = odd_values() + [(0, 1), (0, 1, 1), (0, 1, 1, 1, 1), list(good), "0121", ((0, 1, 2, 1),), {0: good}]
+    for thing in (True, False, None, -1, 10 ** 6 + 1, 10 ** 39, "1", (1,), [1], 0):
+        things.extend(good[:at] + (thing,) + good[at + 1:] for at in range(1, 4))
+    return things + [(thing,) + good[1:] for thing in (1, -1, False, None, "0", (), (0,), 10 ** 6)]
+
+
+def weighings_of(n, seed):
+    """Weighings of a clock, with few and with many keepers."""
+    source = chance(seed + n)
+    rounds = tuple(min(a, n - a) for a in range(n))
+    found = [(0,) + (1,) * (n - 1), rounds, tuple(a * a for a in rounds), level_weighing(n)]
+    found.append((0,) + tuple(source.randrange(1, 10 ** 6 + 1) for _ in range(n - 1)))
+    found.append((0,) + tuple(source.randrange(1, 3) for _ in range(n - 1)))
+    found.append(tuple(gcd(a, n) % n for a in range(n)))
+    for u in plain_units(n):
+        w = [0] * n
+        for a in range(1, n):
+            if w[a] == 0:
+                # The hours that powers of u lead to one another weigh alike.
+                weight, b = source.randrange(1, 4), a
+                while w[b] == 0:
+                    w[b] = weight
+                    b = u * b % n
+        found.append(tuple(w))
+    return found
+
+
+def together(a, b, u, v):
+    """The weighing of the clock a b that gives an hour what two weighings give to its remainders; it loses."""
+    return tuple(u[x % a] + v[x % b] for x in range(a * b))
+
+
+def losers():
+    """Pairs of a clock and a weighing that loses."""
+    found = [
+        (5, (0, 1, 1, 2, 2)), (5, (0, 2, 4, 1, 3)), (6, (0, 3, 1, 2, 1, 3)), (6, (0, 4, 2, 2, 2, 1)),
+        (6, (0, 3, 3, 1, 1, 3)), (7, (0, 4, 2, 4, 1, 2, 1)), (7, (0, 1, 2, 1, 3, 2, 3)), (8, (0, 4, 2, 1, 3, 1, 3, 4)),
+        (8, (0, 3, 4, 2, 2, 4, 4, 2)), (9, (0, 3, 2, 1, 2, 4, 1, 4, 3)), (10, (0, 1, 1, 4, 2, 1, 1, 3, 2, 2)),
+        (10, (0, 4, 3, 4, 2, 1, 3, 4, 1, 1)), (12, (0, 1, 4, 2, 1, 2, 2, 1, 2, 3, 3, 2)),
+    ]
+    for a, b in ((2, 3), (2, 5), (3, 4), (2, 7), (3, 5), (2, 9), (4, 5), (3, 7), (2, 11), (3, 8), (2, 13), (4, 7), (5, 6)):
+        found.append((a * b, together(a, b, level_weighing(a), level_weighing(b))))
+        found.append((a * b, together(a, b, (0,) + (500000,) * (a - 1), (0,) + tuple(range(1, b)))))
+    return found
+
+
+def plain_keepers(n, w):
+    return [u for u in plain_units(n) if all(w[u * a % n] == w[a] for a in range(n))]
+
+
+def plain_least_hours(n, w):
+    """The least hours of the classes."""
+    return [a for a in range(1, n) if all(u * a % n >= a for u in plain_keepers(n, w))]
+
+
+def plain_table(n, w):
+    least = plain_least_hours(n, w)
+    return [[w[a * b % n] for b in least] for a in least]
+
+
+def plain_rank(table):
+    """The rank of a table, with fractions."""
+    rows = [[Fraction(item) for item in row] for row in table]
+    rank = 0
+    for at in range(len(table[0])):
+        fitting = [row for row in rows if row[at] != 0]
+        if fitting:
+            lead = fitting[0]
+            rows.remove(lead)
+            rows = [[item - row[at] / lead[at] * own for item, own in zip(row, lead)] for row in rows]
+            rank += 1
+    return rank
+
+
+def plain_weight(w, row):
+    return sum(w[hour] for hour in row)
+
+
+def plain_exchanges(n, w, length):
+    """All exchanges for a weighing and a length."""
+    factors = list(itertools.product(plain_keepers(n, w), repeat=length))
+    return [(places, own) for places in itertools.permutations(range(length)) for own in factors]
+
+
+def plain_led(n, exchange, row):
+    places, factors = exchange
+    return tuple(factors[j] * row[places[j]] % n for j in range(len(row)))
+
+
+def paths_of(thing):
+    """The ways to all integers in nested tuples, each as a tuple of positions."""
+    if isinstance(thing, tuple):
+        return [(at,) + path for at, part in enumerate(thing) for path in paths_of(part)]
+    return [()] if isinstance(thing, int) else []
+
+
+def part_at(thing, path):
+    for at in path:
+        thing = thing[at]
+    return thing
+
+
+def replaced(thing, path, part):
+    """Nested tuples with another part at the end of a way."""
+    if not path:
+        return part
+    at = path[0]
+    return thing[:at] + (replaced(thing[at], path[1:], part),) + thing[at + 1:]
+
+
+def with_another_integer(thing, others):
+    """Nested tuples, each with another integer at one place: one more, one less, or one of the others."""
+    found = []
+    for path in paths_of(thing):
+        own = part_at(thing, path)
+        for other in [own + 1, own - 1, -own] + list(others):
+            if other != own:
+                found.append(replaced(thing, path, other))
+    return found
+
+
+def misshapen(certificate):
+    """Values that are no certificate, as a part has another kind or another length, or the string is another one."""
+    found = [
+        list(certificate), certificate + (0,), certificate + (certificate[-1],), certificate[:-1], certificate[1:],
+        certificate[::-1], (certificate,), [certificate], {certificate[0]: certificate[1:]}, certificate[0],
+        certificate[:1], (certificate[0], certificate[1:]),
+    ]
+    for word in (certificate[0].upper(), certificate[0] + " ", "", None, True, 1, [certificate[0]], (certificate[0],)):
+        found.append((word,) + certificate[1:])
+    for path in paths_of(certificate):
+        own = part_at(certificate, path)
+        for part in (None, str(own), (own,), [own], {}, ()) + ((bool(own),) if own in (0, 1) else ()):
+            found.append(replaced(certificate, path, part))
+    for path in sorted({path[:k] for path in paths_of(certificate) for k in range(1, len(path))}):
+        own = part_at(certificate, path)
+        for part in (list(own), own + own[-1:], own[:-1], own[1:], None, 0, dict(enumerate(own)), (own,)):
+            found.append(replaced(certificate, path, part))
+    return found
 
 
 class Case(unittest.TestCase):

@@ -73,11 +73,51 @@ INTERFACE = {
         "is_alike_on_units": {"n": 6, "w": (0, 1, 2, 3, 2, 1)},
         "depth_sums": {"n": 6, "w": (0, 1, 2, 3, 2, 1)},
     },
+    "telling": {
+        "judge_weighing": {"n": 6, "w": (0, 3, 1, 2, 1, 3)},
+        "weighing_holds": {"n": 6, "w": (0, 3, 1, 2, 1, 3), "thing": ("loses", (1, -1, -1))},
+        "is_telling": {"n": 6, "w": (0, 1, 2, 3, 2, 1)},
+        "rank_of": {"n": 6, "w": (0, 3, 1, 2, 1, 3)},
+        "two_sheets": {"n": 6, "w": (0, 3, 1, 2, 1, 3), "counts": (-2, 2, 2)},
+        "two_rows_at": {"n": 6, "divisor": 1},
+    },
+    "weights": {
+        "many_of_weight": {"n": 4, "w": (0, 1, 2, 1), "sheet": ((2, 1),)},
+        "least_weight": {"n": 4, "w": (0, 1, 2, 1), "sheet": ((2, 1),)},
+        "lightest": {"n": 4, "w": (0, 1, 2, 1), "sheet": ((2, 1),)},
+        "total_weight": {"n": 4, "w": (0, 1, 2, 1), "sheet": ((2, 1),)},
+        "distance": {"n": 4, "w": (0, 1, 2, 3), "one": (0, 0), "other": (2, 3)},
+        "untame_pair": {"n": 4, "w": (0, 1, 3, 1)},
+        "is_tame": {"n": 4, "w": (0, 1, 3, 1)},
+        "is_mirrored": {"n": 4, "w": (0, 1, 3, 1)},
+    },
+    "maps": {
+        "judge_sound": {"n": 4, "sheet": ((1, 2),), "images": ((2, 1),)},
+        "sound_holds": {"n": 4, "sheet": ((2,),), "images": ((1,),), "thing": ("clash", (2,))},
+        "is_sound": {"n": 4, "sheet": ((2,),), "images": ((1,),)},
+        "is_one_to_one": {"n": 4, "sheet": ((1, 2),), "images": ((2, 0),)},
+        "leads_to": {"n": 4, "sheet": ((1, 2),), "images": ((3, 2),), "other": ((1, 2),)},
+        "unkept_word": {"n": 4, "w": (0, 1, 2, 1), "sheet": ((1, 2),), "images": ((1, 1),)},
+    },
+    "exchanges": {
+        "is_exchange": {"n": 4, "w": (0, 1, 1, 1), "thing": ((1, 0), (1, 3))},
+        "exchanged": {"n": 4, "w": (0, 1, 1, 1), "exchange": ((1, 0), (1, 3)), "row": (1, 2)},
+        "both": {"n": 4, "w": (0, 1, 1, 1), "first": ((1, 0), (1, 3)), "second": ((0, 1), (3, 3))},
+        "undone": {"n": 4, "w": (0, 1, 1, 1), "exchange": ((1, 0), (1, 3))},
+        "column_class": {"n": 4, "w": (0, 1, 1, 1), "column": (3, 2)},
+        "class_counts": {"n": 4, "w": (0, 1, 1, 1), "sheet": ((1, 2, 0, 3),)},
+        "judge_made": {"n": 4, "w": (0, 1, 1, 1), "sheet": ((1, 2),), "images": ((2, 3),)},
+        "made_holds": {
+            "n": 4, "w": (0, 1, 1, 1), "sheet": ((1, 2),), "images": ((1, 1),), "thing": ("unlike", (1,), 1, 2),
+        },
+        "own_maps": {"n": 4, "w": (0, 1, 1, 1), "sheet": ((1, 2),)},
+    },
 }
 
 # Parameters that any value may be passed as: as `thing`, or with an error that is named for it.
 LOOKED_AT = (
-    "thing", "hour", "unit", "one", "other", "row", "sheet", "multipliers", "columns", "w",
+    "thing", "hour", "unit", "one", "other", "row", "sheet", "multipliers", "columns", "w", "counts", "images",
+    "exchange", "first", "second", "column",
 )
 
 

@@ -8,51 +8,11 @@ from hoursheets.weighings import (
     classes, depth_sums, is_alike_on_units, is_weighing, keepers, level_weighing, plain_weighing, round_weighing,
     square_weighing, weight_of, weight_table,
 )
-from tests.helper import LONGEST, Case, chance, no_rows, odd_values
+from tests.helper import (
+    CLOCKS, LONGEST, Case, chance, no_rows, no_weighings, plain_divisors, plain_sign, plain_units, weighings_of,
+)
 
-CLOCKS = range(2, 31)
 OF_A_WEIGHING = (keepers, classes, weight_table, is_alike_on_units, depth_sums)
-
-
-def plain_units(n):
-    return [u for u in range(n) if gcd(u, n) == 1]
-
-
-def plain_divisors(n):
-    return [d for d in range(1, n + 1) if n % d == 0]
-
-
-def plain_sign(m):
-    return 1 if m == 1 else -sum(plain_sign(d) for d in plain_divisors(m)[:-1])
-
-
-def no_weighings():
-    """Values that are no weighing of the clock 4."""
-    good = (0, 1, 2, 1)
-    things = odd_values() + [(0, 1), (0, 1, 1), (0, 1, 1, 1, 1), list(good), "0121", ((0, 1, 2, 1),), {0: good}]
-    for thing in (True, False, None, -1, 10 ** 6 + 1, 10 ** 39, "1", (1,), [1], 0):
-        things.extend(good[:at] + (thing,) + good[at + 1:] for at in range(1, 4))
-    return things + [(thing,) + good[1:] for thing in (1, -1, False, None, "0", (), (0,), 10 ** 6)]
-
-
-def weighings_of(n, seed):
-    """Weighings of a clock, with few and with many keepers."""
-    source = chance(seed + n)
-    found = [plain_weighing(n), round_weighing(n), square_weighing(n), level_weighing(n)]
-    found.append((0,) + tuple(source.randrange(1, 10 ** 6 + 1) for _ in range(n - 1)))
-    found.append((0,) + tuple(source.randrange(1, 3) for _ in range(n - 1)))
-    found.append(tuple(gcd(a, n) % n for a in range(n)))
-    for u in plain_units(n):
-        w = [0] * n
-        for a in range(1, n):
-            if w[a] == 0:
-                # The hours that powers of u lead to one another weigh alike.
-                weight, b = source.randrange(1, 4), a
-                while w[b] == 0:
-                    w[b] = weight
-                    b = u * b % n
-        found.append(tuple(w))
-    return found
 
 
 class Weighings(Case):
