@@ -5,7 +5,7 @@ from hoursheets.clocks import inverse
 from hoursheets.errors import BadExchange, OtherLengths
 from hoursheets.maps import need_map
 from hoursheets.reduced import words_of
-from hoursheets.rows import MOST_HOURS, columns_of, is_row, multiple, need_row, need_sheet
+from hoursheets.rows import MOST_HOURS, columns_of, is_row, multiple, need_row
 from hoursheets.weighings import keepers, need_weighing
 from hoursheets.wholes import is_wholes
 
@@ -70,9 +70,9 @@ def least_of_class(n, kept, column):
 
 def column_class(n, w, column):
     """The least column of the class of a column."""
-    need_weighing(n, w)
+    kept = keepers(n, w)
     need_row(n, column)
-    return least_of_class(n, keepers(n, w), column)
+    return least_of_class(n, kept, column)
 
 
 def class_places(n, kept, columns):
@@ -85,8 +85,8 @@ def class_places(n, kept, columns):
 
 def class_counts(n, w, sheet):
     """The ascending tuple of pairs (least column, how often) of all classes of the columns of a sheet."""
-    need_weighing(n, w)
-    places = class_places(n, keepers(n, w), columns_of(n, sheet))
+    kept = keepers(n, w)
+    places = class_places(n, kept, columns_of(n, sheet))
     return tuple((column, len(places[column])) for column in sorted(places))
 
 
@@ -110,7 +110,7 @@ def judge_made(n, w, sheet, images):
     columns, goals = columns_of(n, sheet), columns_of(n, images)
     places, others = class_places(n, kept, columns), class_places(n, kept, goals)
     source = [0] * len(goals)
-    for least in sorted({**places, **others}):
+    for least in {**places, **others}:
         here, there = places.get(least, []), others.get(least, [])
         if len(here) != len(there):
             return ("unlike", least, len(here), len(there))
@@ -129,7 +129,7 @@ def is_making(n, w, sheet, images, exchange):
 
 def is_unlike_class(n, w, sheet, images, column, counts):
     """Whether any values are the least column of a class and its unlike counts in a sheet and a map."""
-    if not is_row(n, column) or len(column) != len(sheet) or not is_wholes(counts, 2):
+    if not is_row(n, column) or not is_wholes(counts, 2):
         return False
     kept = keepers(n, w)
     places, others = class_places(n, kept, columns_of(n, sheet)), class_places(n, kept, columns_of(n, images))
@@ -161,8 +161,6 @@ def has_just(n, kept, least, columns, counts):
 
 def own_maps(n, w, sheet):
     """The ascending tuple of all maps of a sheet that are made by an exchange and lead to the sheet itself."""
-    need_weighing(n, w)
-    need_sheet(n, sheet)
     kept = keepers(n, w)
     words = words_of(n, sheet)
     least = {}

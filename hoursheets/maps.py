@@ -35,7 +35,7 @@ def judge_sound(n, sheet, images):
 
 def is_table_of(n, sheet, images, thing):
     """Whether any value is a row for each column of a sheet that tell the images by these columns."""
-    if not is_sheet(n, thing) or len(thing) != len(sheet[0]) or len(thing[0]) != len(images[0]):
+    if not is_sheet(n, thing) or len(thing) != len(sheet[0]):
         return False
     return all(word_of(n, thing, row) == image for row, image in zip(sheet, images))
 

@@ -85,10 +85,15 @@ def classes(n, w):
     return tuple(found)
 
 
+def table_by_classes(n, w, v):
+    """The table of what v gives to the products of the least hours of the classes of w."""
+    least = [members[0] for members in classes(n, w)]
+    return tuple(tuple([v[one * other % n] for other in least]) for one in least)
+
+
 def weight_table(n, w):
     """The table of the weights of the products of the least hours of the classes."""
-    least = [members[0] for members in classes(n, w)]
-    return tuple(tuple([w[one * other % n] for other in least]) for one in least)
+    return table_by_classes(n, w, w)
 
 
 def is_alike_on_units(n, w):

@@ -35,10 +35,8 @@ def is_wholes(thing, many):
 
 
 def fraction(top, bottom):
-    """The fraction without common divisors that is a top to a bottom other than 0."""
+    """The fraction without common divisors of a top and a bottom from 1 on."""
     common = gcd(top, bottom)
-    if bottom < 0:
-        common = -common
     return (top // common, bottom // common)
 
 

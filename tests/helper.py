@@ -1,5 +1,6 @@
 """What the tests share: values of all kinds, plain goings-through, and the running of examples."""
 
+import functools
 import itertools
 import random
 import unittest
@@ -168,10 +169,17 @@ def losers():
         (8, (0, 3, 4, 2, 2, 4, 4, 2)), (9, (0, 3, 2, 1, 2, 4, 1, 4, 3)), (10, (0, 1, 1, 4, 2, 1, 1, 3, 2, 2)),
         (10, (0, 4, 3, 4, 2, 1, 3, 4, 1, 1)), (12, (0, 1, 4, 2, 1, 2, 2, 1, 2, 3, 3, 2)),
     ]
-    for a, b in ((2, 3), (2, 5), (3, 4), (2, 7), (3, 5), (2, 9), (4, 5), (3, 7), (2, 11), (3, 8), (2, 13), (4, 7), (5, 6)):
+    for a, b in (
+        (2, 3), (2, 5), (3, 4), (2, 7), (3, 5), (2, 9), (4, 5), (3, 7), (2, 11), (3, 8), (2, 13), (4, 7), (5, 6),
+    ):
         found.append((a * b, together(a, b, level_weighing(a), level_weighing(b))))
         found.append((a * b, together(a, b, (0,) + (500000,) * (a - 1), (0,) + tuple(range(1, b)))))
     return found
+
+
+def most_hours(counts):
+    """How many hours the longer one of the two rows for counts has."""
+    return max(sum(count for count in counts if count > 0), -sum(count for count in counts if count < 0))
 
 
 def plain_keepers(n, w):
@@ -188,16 +196,21 @@ def plain_table(n, w):
     return [[w[a * b % n] for b in least] for a in least]
 
 
+# Determinants of tables here are divided by this prime number only if they are 0, but for a rare chance.
+PRIME = 2 ** 127 - 1
+
+
 def plain_rank(table):
-    """The rank of a table, with fractions."""
-    rows = [[Fraction(item) for item in row] for row in table]
+    """The rank of a table, worked out with remainders by a large prime number."""
+    rows = [[item % PRIME for item in row] for row in table]
     rank = 0
     for at in range(len(table[0])):
         fitting = [row for row in rows if row[at] != 0]
         if fitting:
             lead = fitting[0]
             rows.remove(lead)
-            rows = [[item - row[at] / lead[at] * own for item, own in zip(row, lead)] for row in rows]
+            shares = [row[at] * pow(lead[at], -1, PRIME) for row in rows]
+            rows = [[(item - share * own) % PRIME for item, own in zip(row, lead)] for row, share in zip(rows, shares)]
             rank += 1
     return rank
 
@@ -215,6 +228,64 @@ def plain_exchanges(n, w, length):
 def plain_led(n, exchange, row):
     places, factors = exchange
     return tuple(factors[j] * row[places[j]] % n for j in range(len(row)))
+
+
+# All clocks and numbers of rows with at most 130 multipliers.
+SHAPES = [(n, k) for n in CLOCKS for k in range(1, 7) if n ** k <= 130]
+SMALL_SHAPES = [(n, k) for n, k in SHAPES if n ** k <= 36]
+
+
+def plain_class(n, w, column):
+    return min(tuple(u * hour % n for hour in column) for u in plain_keepers(n, w))
+
+
+def plain_columns(n, w, k):
+    """The least columns of all classes but that of the column of zeros."""
+    kept = plain_keepers(n, w)
+    return [
+        column for column in rows_of(n, k)
+        if any(column) and min(tuple(u * hour % n for hour in column) for u in kept) == column
+    ]
+
+
+def plain_list(n, w, k, counts):
+    """The items that the list of counts has, as fractions."""
+    return [
+        sum((Fraction(*number) * w[plain_product(n, x, column)] for column, number in counts), Fraction(0))
+        for x in rows_of(n, k)
+    ]
+
+
+def in_pairs(counts):
+    """Counts with their numbers as pairs (top, bottom), without those of 0."""
+    return tuple((column, (number.numerator, number.denominator)) for column, number in counts if number != 0)
+
+
+def plain_read_back(n, w, k, weights):
+    """The counts that have a list that is alike on keepers, by solving all equations at once."""
+    columns = plain_columns(n, w, k)
+    items = dict(zip(rows_of(n, k), weights))
+    rows = [[Fraction(w[plain_product(n, x, column)]) for column in columns] + [Fraction(items[x])] for x in columns]
+    for at in range(len(columns)):
+        lead = next(j for j in range(at, len(rows)) if rows[j][at] != 0)
+        rows[at], rows[lead] = rows[lead], rows[at]
+        rows[at] = [item / rows[at][at] for item in rows[at]]
+        for j, row in enumerate(rows):
+            if j != at and row[at] != 0:
+                rows[j] = [item - row[at] * own for item, own in zip(row, rows[at])]
+    return in_pairs((column, row[-1]) for column, row in zip(columns, rows))
+
+
+@functools.cache
+def telling_weighings(n, seed):
+    """Some weighings of a clock that tell."""
+    return [w for w in weighings_of(n, seed) if plain_rank(plain_table(n, w)) == len(plain_table(n, w))]
+
+
+def alike_list(source, n, w, k, most):
+    """A list of integers that is alike on keepers."""
+    items = {(0,) * k: 0}
+    return tuple(items.setdefault(plain_class(n, w, x), source.randrange(-most, most + 1)) for x in rows_of(n, k))
 
 
 def paths_of(thing):

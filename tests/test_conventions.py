@@ -112,12 +112,38 @@ INTERFACE = {
         },
         "own_maps": {"n": 4, "w": (0, 1, 1, 1), "sheet": ((1, 2),)},
     },
+    "lists": {
+        "list_of": {"n": 4, "w": (0, 1, 2, 1), "sheet": ((1, 2),)},
+        "counts_of": {"n": 4, "w": (0, 1, 2, 1), "sheet": ((1, 2),)},
+        "is_list": {"n": 4, "k": 1, "thing": (0, 3, 2, 3)},
+        "is_counts": {"n": 4, "w": (0, 1, 2, 1), "k": 1, "thing": (((1,), (1, 2)), ((2,), (-3, 4)))},
+        "list_of_counts": {"n": 4, "w": (0, 1, 2, 1), "k": 1, "counts": (((1,), (1, 2)), ((2,), (-3, 4)))},
+        "sheet_of_counts": {"n": 4, "w": (0, 1, 2, 1), "k": 1, "counts": (((1,), (1, 1)), ((2,), (3, 1)))},
+    },
+    "readback": {
+        "read_back": {"n": 4, "w": (0, 1, 2, 1), "k": 1, "weights": (0, 2, 1, 2)},
+        "judge_list": {"n": 4, "w": (0, 1, 2, 1), "k": 1, "weights": (0, 2, 1, 2)},
+        "list_holds": {"n": 4, "w": (0, 1, 2, 1), "k": 1, "weights": (0, 1, 2, 3), "thing": ("keeper", 3, (1,))},
+    },
+    "level": {
+        "level_counts": {"n": 4, "w": (0, 1, 2, 1), "k": 1},
+        "judge_level": {"n": 4, "w": (0, 1, 2, 1), "k": 1},
+        "level_holds": {"n": 4, "w": (0, 2, 1, 2), "k": 1, "thing": ("column", (2,), (-1, 1))},
+        "level_length": {"n": 4, "w": (0, 1, 2, 1), "k": 1},
+    },
+    "along": {
+        "judge_along": {"n": 6, "w": (0, 3, 1, 2, 1, 3), "v": (0, 5, 2, 3, 2, 5)},
+        "along_holds": {
+            "n": 6, "w": (0, 3, 1, 2, 1, 3), "v": (0, 1, 1, 1, 1, 1), "thing": ("counts", (1, -1, -1)),
+        },
+        "is_along": {"n": 6, "w": (0, 3, 1, 2, 1, 3), "v": (0, 1, 1, 1, 1, 1)},
+    },
 }
 
 # Parameters that any value may be passed as: as `thing`, or with an error that is named for it.
 LOOKED_AT = (
     "thing", "hour", "unit", "one", "other", "row", "sheet", "multipliers", "columns", "w", "counts", "images",
-    "exchange", "first", "second", "column",
+    "exchange", "first", "second", "column", "weights", "v",
 )
 
 

@@ -13,7 +13,8 @@ from hoursheets.reduced import same_words, words_of
 from hoursheets.telling import is_telling
 from tests.helper import (
     CLOCKS, LONGEST, Case, chance, chance_sheet, large_sheets, misshapen, no_rows, no_sheets, no_weighings, odd_values,
-    paths_of, part_at, plain_exchanges, plain_keepers, plain_led, plain_weight, replaced, rows_of, sheets_of, small_sheets,
+    paths_of, part_at, plain_class, plain_exchanges, plain_keepers, plain_led, plain_weight, rows_of, sheets_of,
+    small_sheets,
     weighings_of, with_another_integer,
 )
 
@@ -30,10 +31,6 @@ def chance_exchange(source, n, w, length):
 
 def led_sheet(n, exchange, sheet):
     return tuple(plain_led(n, exchange, row) for row in sheet)
-
-
-def plain_class(n, w, column):
-    return min(tuple(u * hour % n for hour in column) for u in plain_keepers(n, w))
 
 
 def plain_counts(n, w, sheet):
@@ -59,8 +56,10 @@ def no_exchanges():
     good = ((1, 0), (1, 3))
     return odd_values() + [
         ((), ()), ((0,), ()), ((), (1,)), ((0,), (0,)), ((0,), (2,)), ((1,), (1,)), ((0, 0), (1, 1)), ((0, 1), (1,)),
-        ((0,), (1, 1)), ((0, 2), (1, 1)), ((-1, 0), (1, 1)), ((False, 1), (1, 1)), ((0, True), (1, 1)), ((0, 1), (True, 1)),
-        ((0, 1), (1, 5)), ((0, 1), (1, -1)), ((0, 1), (1, None)), ((0, "1"), (1, 1)), ([0, 1], (1, 1)), ((0, 1), [1, 1]),
+        ((0,), (1, 1)), ((0, 2), (1, 1)), ((-1, 0), (1, 1)), ((False, 1), (1, 1)), ((0, True), (1, 1)),
+        ((0, 1), (True, 1)),
+        ((0, 1), (1, 5)), ((0, 1), (1, -1)), ((0, 1), (1, None)), ((0, "1"), (1, 1)), ([0, 1], (1, 1)),
+        ((0, 1), [1, 1]),
         [(0, 1), (1, 1)], ((0, 1), (1, 1), ()), ((0, 1),), (tuple(range(21)), (1,) * 21), ((0, (1,)), (1, 1)),
         ((0, 1), ((1,), 1)), "01", {0: 1}, (good,), ("made",) + good, ((0, 10 ** 39), (1, 1)), ((1, 2), (1, 1)),
     ]
@@ -133,10 +132,8 @@ class Exchanges(Case):
             exchanges = plain_exchanges(n, w, 2)
             for first in exchanges:
                 for second in exchanges:
-                    expected = [
-                        own for own in exchanges
-                        if all(plain_led(n, own, row) == plain_led(n, second, plain_led(n, first, row)) for row in rows_of(n, 2))
-                    ]
+                    goals = [plain_led(n, second, plain_led(n, first, row)) for row in rows_of(n, 2)]
+                    expected = [own for own in exchanges if list(led_sheet(n, own, rows_of(n, 2))) == goals]
                     self.same([both(n, w, first, second)], expected)
 
     def test_wrong_arguments(self):
@@ -219,7 +216,9 @@ class Made(Case):
         return found
 
     def test_all_small_maps(self):
-        for n, w, many, length in [(2, (0, 1), 2, 2), (3, (0, 1, 1), 1, 2), (3, (0, 1, 2), 1, 2), (4, PLAIN, 1, 2), (4, UNEVEN, 1, 2)]:
+        for n, w, many, length in [
+            (2, (0, 1), 2, 2), (3, (0, 1, 1), 1, 2), (3, (0, 1, 2), 1, 2), (4, PLAIN, 1, 2), (4, UNEVEN, 1, 2),
+        ]:
             exchanges = plain_exchanges(n, w, length)
             for sheet in sheets_of(n, many, length):
                 made = {led_sheet(n, exchange, sheet) for exchange in exchanges}
@@ -229,9 +228,11 @@ class Made(Case):
     def test_certificates_are_of_just_one_kind(self):
         for n, w, sheet, images in [
             (4, PLAIN, ((1, 2),), ((2, 3),)), (4, PLAIN, ((1, 2),), ((1, 1),)), (4, UNEVEN, ((1, 2),), ((2, 3),)),
-            (4, UNEVEN, ((1, 2),), ((2, 1),)), (3, (0, 1, 1), ((0, 1), (2, 0)), ((0, 2), (1, 0))), (3, (0, 1, 1), ((0, 0),), ((0, 1),)),
+            (4, UNEVEN, ((1, 2),), ((2, 1),)), (3, (0, 1, 1), ((0, 1), (2, 0)), ((0, 2), (1, 0))),
+            (3, (0, 1, 1), ((0, 0),), ((0, 1),)),
         ]:
-            things = [("made",) + own for own in itertools.product(itertools.product(range(3), repeat=2), rows_of(n, 2))]
+            places = itertools.product(range(3), repeat=2)
+            things = [("made",) + own for own in itertools.product(places, rows_of(n, 2))]
             for column in rows_of(n, len(sheet)):
                 things.extend(("unlike", column) + pair for pair in itertools.product(range(-1, 4), repeat=2))
             held = [thing for thing in things if made_holds(n, w, sheet, images, thing)]
@@ -294,9 +295,15 @@ class Made(Case):
                     self.same(made_holds(n, w, sheet, images, thing), False)
 
     def test_any_value_as_certificate(self):
-        for thing in odd_values() + [("made", (), ()), ("made", (0,), (1,)), ("unlike", (), 0, 1), ("unlike", (1,), 1, True)]:
+        for thing in odd_values() + [
+            ("made", (), ()), ("made", (0,), (1,)), ("unlike", (), 0, 1), ("unlike", (1,), 1, True),
+        ]:
             self.same(made_holds(4, PLAIN, ((1, 2),), ((2, 1),), thing), False)
             self.same(made_holds(4, PLAIN, ((2, 2),), ((1, 2),), thing), False)
+        for thing in (
+            ("made", (1, 0, 2), (3, 1, 1)), ("made", (0,), (3,)), ("unlike", (1, 0), 1, 2), ("unlike", (1, 0), 0, 0),
+        ):
+            self.same(made_holds(4, PLAIN, ((1, 2),), ((2, 1),), thing), False)
         self.same(made_holds(4, PLAIN, ((2, 2),), ((1, 2),), ("unlike", (1,), 0, 1)), True)
         self.same(made_holds(4, PLAIN, ((2, 2),), ((1, 2),), ("unlike", (True,), 0, 1)), False)
 
@@ -335,8 +342,8 @@ class Own(Case):
         source = chance(157)
         many = set()
         for _ in range(150):
-            n, rows, length = source.choice((2, 3, 4, 5, 6, 8, 9, 10, 12)), source.randrange(1, 4), source.randrange(1, 5)
-            sheet = chance_sheet(source, n, rows, length)
+            n, length = source.choice((2, 3, 4, 5, 6, 8, 9, 10, 12)), source.randrange(1, 5)
+            sheet = chance_sheet(source, n, source.randrange(1, 4), length)
             for w in source.choices(weighings_of(n, 158), k=2):
                 if len(plain_keepers(n, w)) ** length <= 300 and len(words_of(n, sheet)) <= 100:
                     found = own_maps(n, w, sheet)
@@ -374,7 +381,10 @@ class Own(Case):
         self.assertEqual(list(found), sorted(found))
 
     def test_own_maps_are_closed(self):
-        for n, w, sheet in [(4, PLAIN, ((1, 2, 3), (0, 1, 1))), (3, (0, 1, 1), ((1, 0, 1), (0, 1, 1))), (6, (0, 1, 2, 3, 2, 1), ((1, 1, 2), (3, 0, 2)))]:
+        for n, w, sheet in [
+            (4, PLAIN, ((1, 2, 3), (0, 1, 1))), (3, (0, 1, 1), ((1, 0, 1), (0, 1, 1))),
+            (6, (0, 1, 2, 3, 2, 1), ((1, 1, 2), (3, 0, 2))),
+        ]:
             found = own_maps(n, w, sheet)
             self.assertIn(sheet, found)
             for one in found:

@@ -73,7 +73,10 @@ class Sound(Case):
 """)
 
     def test_all_small_maps(self):
-        shapes = [(2, 2, 2, 1), (2, 2, 1, 2), (3, 1, 2, 2), (4, 1, 1, 2), (4, 1, 2, 1), (4, 2, 1, 1), (6, 1, 1, 1), (8, 1, 1, 1)]
+        shapes = [
+            (2, 2, 2, 1), (2, 2, 1, 2), (3, 1, 2, 2), (4, 1, 1, 2), (4, 1, 2, 1), (4, 2, 1, 1), (6, 1, 1, 1),
+            (8, 1, 1, 1),
+        ]
         for n, many, length, other in shapes:
             for sheet in sheets_of(n, many, length):
                 for images in sheets_of(n, many, other):
@@ -92,7 +95,8 @@ class Sound(Case):
     def test_certificates_are_of_just_one_kind(self):
         for n, sheet, images in [
             (2, ((1, 1), (0, 1)), ((1, 0), (1, 1))), (2, ((1, 1), (1, 1)), ((1, 0), (1, 1))), (4, ((2,),), ((1,),)),
-            (4, ((2, 0),), ((2,),)), (6, ((2,), (3,)), ((4,), (3,))), (6, ((2,), (4,)), ((3,), (3,))), (3, ((0, 0),), ((0,),)),
+            (4, ((2, 0),), ((2,),)), (6, ((2,), (3,)), ((4,), (3,))), (6, ((2,), (4,)), ((3,), (3,))),
+            (3, ((0, 0),), ((0,),)),
         ]:
             tables = itertools.product(rows_of(n, len(images[0])), repeat=len(sheet[0]))
             things = [("by", table) for table in tables] + [("clash", x) for x in rows_of(n, len(sheet))]
@@ -162,7 +166,9 @@ class Sound(Case):
             self.same(sound_holds(n, sheet, images, (other, found[1])), False)
 
     def test_any_value_as_certificate(self):
-        wrong = odd_values() + [("by", ()), ("by", ((),)), ("by", ((0,) * 21,)), ("clash", ()), ("clash", (0,)), ("by",)]
+        wrong = odd_values() + [
+            ("by", ()), ("by", ((),)), ("by", ((0,) * 21,)), ("clash", ()), ("clash", (0,)), ("by",),
+        ]
         for thing in wrong:
             self.same(sound_holds(4, ((1, 2),), ((2, 1),), thing), False)
             self.same(sound_holds(4, ((2,),), ((1,),), thing), False)

@@ -9,8 +9,10 @@ from hoursheets.maps import is_sound, unkept_word
 from hoursheets.telling import is_telling, judge_weighing, rank_of, two_rows_at, two_sheets, weighing_holds
 from hoursheets.weighings import depth_sums, is_alike_on_units, level_weighing, plain_weighing
 from tests.helper import (
-    CLOCKS, Case, chance, losers, misshapen, no_weighings, odd_values, plain_divisors, plain_exchanges, plain_least_hours,
-    plain_led, plain_rank, plain_sign, plain_table, plain_weight, rows_of, sheets_of, weighings_of, with_another_integer,
+    CLOCKS, Case, chance, losers, misshapen, most_hours, no_weighings, odd_values, plain_divisors, plain_exchanges,
+    plain_least_hours,
+    plain_led, plain_rank, plain_sign, plain_table, plain_weight, rows_of, sheets_of, weighings_of,
+    with_another_integer,
 )
 
 FUNCTIONS = (judge_weighing, is_telling, rank_of)
@@ -161,7 +163,9 @@ raises BadCounts((1, -1, -1))
                             self.same(weighing_holds(n, w, ("loses", counts)), True)
 
     def test_certificates_with_one_part_changed(self):
-        for n, w in [(4, (0, 1, 2, 3)), (6, (0, 1, 2, 3, 2, 1)), (6, LOST), (8, (0, 4, 2, 1, 3, 1, 3, 4)), (5, (0, 1, 1, 2, 2))]:
+        for n, w in [
+            (4, (0, 1, 2, 3)), (6, (0, 1, 2, 3, 2, 1)), (6, LOST), (8, (0, 4, 2, 1, 3, 1, 3, 4)), (5, (0, 1, 1, 2, 2)),
+        ]:
             found = judge_weighing(n, w)
             for thing in with_another_integer(found, (0, 1, 10 ** 29, -(10 ** 29) - 7)):
                 self.same(weighing_holds(n, w, thing), is_right(n, w, thing))
@@ -207,12 +211,13 @@ class TwoSheets(Case):
     def test_losers(self):
         for n, w in losers():
             counts = judge_weighing(n, w)[1]
-            if max(sum(c for c in counts if c > 0), -sum(c for c in counts if c < 0)) <= 20:
+            if most_hours(counts) <= 20:
                 one, other = self.check(n, w, counts)
                 turned = self.check(n, w, tuple(-count for count in counts))
                 self.same(turned, (other, one))
                 if len(one[0]) <= 4 and n <= 10:
-                    self.assertNotIn(other[0], [plain_led(n, own, one[0]) for own in plain_exchanges(n, w, len(one[0]))])
+                    exchanges = plain_exchanges(n, w, len(one[0]))
+                    self.assertNotIn(other[0], [plain_led(n, own, one[0]) for own in exchanges])
 
     def test_rows_of_20_and_of_21_hours(self):
         w = (0, 4, 2, 2, 2, 1)
@@ -227,7 +232,8 @@ class TwoSheets(Case):
 
     def test_wrong_counts(self):
         wrong = odd_values() + [
-            (1, -1), (1, -1, -1, 0), (0, 0, 0), [1, -1, -1], (1, -1, 1), (True, -1, -1), ("1", "-1", "-1"), (1, -1, None),
+            (1, -1), (1, -1, -1, 0), (0, 0, 0), [1, -1, -1], (1, -1, 1), (True, -1, -1), ("1", "-1", "-1"),
+            (1, -1, None),
             (10 ** 29, -(10 ** 29), 10 ** 29), (22, -22, -21), (30, 0, 0),
         ]
         self.refuses(BadCounts, two_sheets, {"n": 6, "w": LOST}, "counts", wrong)
@@ -241,7 +247,9 @@ class TwoSheets(Case):
 
 class Told(Case):
     def test_weighings_that_tell_keep_no_other_maps(self):
-        for n, w in [(2, (0, 3)), (3, (0, 1, 1)), (3, (0, 1, 2)), (4, (0, 1, 2, 1)), (4, (0, 2, 1, 2)), (4, (0, 1, 2, 3))]:
+        for n, w in [
+            (2, (0, 3)), (3, (0, 1, 1)), (3, (0, 1, 2)), (4, (0, 1, 2, 1)), (4, (0, 2, 1, 2)), (4, (0, 1, 2, 3)),
+        ]:
             self.assertTrue(is_telling(n, w))
             shapes = [(1, 1), (1, 2)] + ([(1, 3), (2, 1), (2, 2)] if n <= 3 else [])
             sheets = [sheet for shape in shapes for sheet in sheets_of(n, *shape)]

@@ -10,7 +10,8 @@ from hoursheets.weights import (
     distance, is_mirrored, is_tame, least_weight, lightest, many_of_weight, total_weight, untame_pair,
 )
 from tests.helper import (
-    CLOCKS, LONGEST, Case, chance, chance_sheet, large_sheets, no_rows, no_sheets, no_weighings, plain_weight, plain_words,
+    CLOCKS, LONGEST, Case, chance, chance_sheet, large_sheets, no_rows, no_sheets, no_weighings, plain_weight,
+    plain_words,
     rows_of, small_sheets, weighings_of,
 )
 
@@ -80,7 +81,8 @@ class Weights(Case):
     def test_nearly_5000_words(self):
         for n, many in ((2, 12), (3, 7), (8, 4), (17, 3), (29, 2)):
             source = chance(97 + n)
-            sheet = tuple(tuple(int(k == at) for k in range(many)) + tuple(source.choices(range(n), k=20 - many)) for at in range(many))
+            front = [tuple(int(k == at) for k in range(many)) for at in range(many)]
+            sheet = tuple(row + tuple(source.choices(range(n), k=20 - many)) for row in front)
             self.assertEqual(many_words(n, sheet), n ** many)
             w = weighings_of(n, 98)[4]
             found = many_of_weight(n, w, sheet)
@@ -207,7 +209,8 @@ class Tame(Case):
     def test_some_weighings(self):
         for n in CLOCKS:
             plain, rounds = weighings_of(n, 109)[:2]
-            self.same([is_tame(n, plain), is_tame(n, rounds), is_mirrored(n, plain), is_mirrored(n, rounds)], [True] * 4)
+            for w in (plain, rounds):
+                self.same([is_tame(n, w), is_mirrored(n, w)], [True, True])
         self.same(untame_pair(8, (0, 1, 4, 9, 16, 9, 4, 1)), (1, 1))
         self.same(untame_pair(6, (0, 2, 2, 2, 5, 2)), (1, 3))
         self.same(untame_pair(2, (0, 10 ** 6)), None)
