@@ -36,6 +36,11 @@ def led_by(n, exchange, row):
     return tuple([factor * row[place] % n for place, factor in zip(places, factors)])
 
 
+def sheet_led_by(n, exchange, sheet):
+    """The sheet to which an exchange leads a sheet, both known to be of one length."""
+    return tuple([led_by(n, exchange, row) for row in sheet])
+
+
 def exchanged(n, w, exchange, row):
     """The row to which an exchange leads a row."""
     need_exchange(n, w, exchange)

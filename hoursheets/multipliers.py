@@ -3,12 +3,17 @@
 from hoursheets.rows import plus_multiple, zero_row
 
 
-def multipliers_of(n, many):
-    """The ascending list of all tuples of so many hours."""
+def tuples_over(hours, many):
+    """The list of all tuples of so many of some hours, in the order of these."""
     found = [()]
     for _ in range(many):
-        found = [before + (hour,) for before in found for hour in range(n)]
+        found = [before + (hour,) for before in found for hour in hours]
     return found
+
+
+def multipliers_of(n, many):
+    """The ascending list of all tuples of so many hours."""
+    return tuples_over(list(range(n)), many)
 
 
 def words_in_order(n, sheet):

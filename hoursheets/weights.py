@@ -3,7 +3,7 @@
 from hoursheets.reduced import many_words, words_of
 from hoursheets.rows import columns_of, need_like_rows, plus_multiple
 from hoursheets.weighings import need_weighing, weigh
-from hoursheets.wholes import common_divisor
+from hoursheets.wholes import common_divisor, how_often
 
 
 def weighed_words(n, w, sheet):
@@ -14,10 +14,7 @@ def weighed_words(n, w, sheet):
 
 def many_of_weight(n, w, sheet):
     """The ascending tuple of pairs (weight, how many words have it)."""
-    having = {}
-    for weight, _ in weighed_words(n, w, sheet):
-        having[weight] = having.get(weight, 0) + 1
-    return tuple(sorted(having.items()))
+    return how_often([weight for weight, word in weighed_words(n, w, sheet)])
 
 
 def lightest_word(n, w, sheet):

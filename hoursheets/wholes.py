@@ -1,4 +1,4 @@
-"""Integers and fractions [0.2]: common divisors and multiples, powers, and tuples of integers."""
+"""Integers and fractions [0.2], powers, tuples of integers, and how often things stand among others."""
 
 from math import gcd, lcm
 
@@ -35,11 +35,21 @@ def is_wholes(thing, many):
 
 
 def fraction(top, bottom):
-    """The fraction without common divisors of a top and a bottom from 1 on."""
+    """The fraction without common divisors of a top and a bottom other than 0."""
     common = gcd(top, bottom)
+    if bottom < 0:
+        common = -common
     return (top // common, bottom // common)
 
 
 def is_fraction(thing):
     """Whether any value is a fraction whose top and bottom have no common divisor but 1."""
     return is_wholes(thing, 2) and thing[1] >= 1 and gcd(thing[0], thing[1]) == 1
+
+
+def how_often(things):
+    """The ascending tuple of pairs (thing, how often it stands among things)."""
+    having = {}
+    for thing in things:
+        having[thing] = having.get(thing, 0) + 1
+    return tuple(sorted(having.items()))

@@ -138,12 +138,42 @@ INTERFACE = {
         },
         "is_along": {"n": 6, "w": (0, 3, 1, 2, 1, 3), "v": (0, 1, 1, 1, 1, 1)},
     },
+    "likeness": {
+        "least_guise": {"n": 4, "w": (0, 1, 2, 1), "sheet": ((2, 1),)},
+        "many_guises": {"n": 4, "w": (0, 1, 2, 1), "sheet": ((2, 1),)},
+        "guises": {"n": 4, "w": (0, 1, 2, 1), "sheet": ((2, 1),)},
+        "judge_alike": {"n": 4, "w": (0, 1, 2, 1), "one": ((2, 1),), "other": ((1, 1),)},
+        "alike_holds": {
+            "n": 4, "w": (0, 1, 2, 1), "one": ((2, 1),), "other": ((1, 2),), "thing": ("alike", ((1, 0), (1, 3))),
+        },
+        "are_alike": {"n": 4, "w": (0, 1, 2, 1), "one": ((2, 1),), "other": ((3, 2),)},
+    },
+    "counts": {
+        "depth_counts": {"n": 4, "row": (2, 1)},
+        "count_of": {"n": 4, "sheet": ((2, 1),)},
+        "zero_counts": {"n": 4, "sheet": ((2, 1),)},
+        "turned_count": {"n": 2, "count": (((0, 1), 1), ((1, 0), 2))},
+        "bar_of": {"n": 2, "count": (((0, 1), 1), ((1, 0), 2))},
+        "turned_zeros": {"n": 4, "counts": (1, 1, 2)},
+    },
+    "joined": {
+        "beside": {"n": 4, "one": ((2, 1),), "other": ((3,),)},
+        "beneath": {"n": 4, "one": ((2, 1),), "other": ((0, 1),)},
+        "apart": {"n": 4, "one": ((2, 1),), "other": ((3,),)},
+        "cut": {"n": 4, "sheet": ((2, 1),), "position": 0},
+        "shortened": {"n": 4, "sheet": ((2, 1),), "position": 0},
+    },
+    "rests": {
+        "made_of": {"a": 2, "b": 3, "one": ((1,),), "other": ((0,),)},
+        "part_by": {"n": 6, "a": 2, "sheet": ((3,),)},
+        "weighing_of": {"a": 2, "b": 3, "u": (0, 1), "v": (0, 1, 1)},
+    },
 }
 
 # Parameters that any value may be passed as: as `thing`, or with an error that is named for it.
 LOOKED_AT = (
     "thing", "hour", "unit", "one", "other", "row", "sheet", "multipliers", "columns", "w", "counts", "images",
-    "exchange", "first", "second", "column", "weights", "v",
+    "exchange", "first", "second", "column", "weights", "v", "u", "count",
 )
 
 
