@@ -1,6 +1,6 @@
 """Rows and sheets of hours [1.4]: sums, multiples, products, words and columns."""
 
-from hoursheets.clocks import is_hour
+from hoursheets.clocks import is_hour, is_whole
 from hoursheets.errors import BadRow, BadSheet, OtherLengths
 
 MOST_HOURS = 20
@@ -24,6 +24,11 @@ def is_sheet(n, thing):
 def is_multipliers(n, sheet, thing):
     """Whether any value is multipliers for a sheet; these are a row, as sheets have up to 20 rows."""
     return is_row(n, thing) and len(thing) == len(sheet)
+
+
+def is_place(sheet, thing):
+    """Whether any value is the position of a row of a sheet."""
+    return is_whole(thing) and 0 <= thing < len(sheet)
 
 
 def need_row(n, thing):

@@ -8,6 +8,8 @@ from fractions import Fraction
 from math import gcd
 
 from hoursheets import errors
+from hoursheets.houses import House
+from hoursheets.reduced import reduced
 from hoursheets.weighings import level_weighing
 
 
@@ -286,6 +288,167 @@ def alike_list(source, n, w, k, most):
     """A list of integers that is alike on keepers."""
     items = {(0,) * k: 0}
     return tuple(items.setdefault(plain_class(n, w, x), source.randrange(-most, most + 1)) for x in rows_of(n, k))
+
+
+@functools.cache
+def plain_guises(n, w, sheet):
+    """The sets of words of all sheets that come of a sheet by an exchange."""
+    words = plain_words(n, sheet)
+    exchanges = plain_exchanges(n, w, len(sheet[0]))
+    return {frozenset(plain_led(n, exchange, word) for word in words) for exchange in exchanges}
+
+
+def plain_images(n, one, other):
+    """For each word of a sheet the set of its images by a map."""
+    found = {}
+    for x in rows_of(n, len(one)):
+        found.setdefault(plain_word(n, one, x), set()).add(plain_word(n, other, x))
+    return found
+
+
+def plain_holds(n, w, sheets, promise):
+    """Whether a promise about named sheets, which are a dict, holds, by its words in [14.2]."""
+    kind, one = promise[0], sheets[promise[1]]
+    if kind == "least":
+        return all(plain_weight(w, word) >= promise[2] for word in plain_words(n, one) if any(word))
+    other = sheets[promise[2]]
+    if kind == "kept":
+        if len(one) != len(other):
+            return False
+        images = plain_images(n, one, other)
+        return all(
+            len(having) == 1 and plain_weight(w, word) == plain_weight(w, min(having))
+            for word, having in images.items()
+        )
+    if len(one[0]) != len(other[0]):
+        return False
+    if kind == "within":
+        return plain_words(n, one) <= plain_words(n, other)
+    return frozenset(plain_words(n, other)) in plain_guises(n, w, one)
+
+
+def plain_least_guise(n, w, sheet):
+    """The least guise, by reducing what each exchange makes of a sheet."""
+    exchanges = plain_exchanges(n, w, len(sheet[0]))
+    return min(reduced(n, tuple(plain_led(n, exchange, row) for row in sheet)) for exchange in exchanges)
+
+
+def plain_against(n, w, sheets, promise, thing):
+    """Whether a certificate of a right form is right against a promise, by its words in [14.3]."""
+    kind, one, mark = promise[0], sheets[promise[1]], thing[0]
+    if kind == "least":
+        if mark != "light" or len(thing[1]) != len(one) or not all(0 <= x < n for x in thing[1]):
+            return False
+        word = plain_word(n, one, thing[1])
+        return any(word) and plain_weight(w, word) < promise[2]
+    other = sheets[promise[2]]
+    if kind == "kept":
+        if len(one) != len(other):
+            return thing == ("rows", len(one), len(other))
+        if mark not in ("clash", "word") or len(thing[1]) != len(one) or not all(0 <= x < n for x in thing[1]):
+            return False
+        word, image = plain_word(n, one, thing[1]), plain_word(n, other, thing[1])
+        if mark == "clash":
+            return not any(word) and any(image)
+        is_sound = all(len(having) == 1 for having in plain_images(n, one, other).values())
+        return is_sound and plain_weight(w, word) != plain_weight(w, image)
+    if len(one[0]) != len(other[0]):
+        return thing == ("lengths", len(one[0]), len(other[0]))
+    if kind == "within":
+        if mark != "barred" or not 0 <= thing[1] < len(one) or len(thing[2]) != len(other[0]):
+            return False
+        if not all(0 <= hour < n for hour in thing[2]):
+            return False
+        bars = all(plain_product(n, row, thing[2]) == 0 for row in other)
+        return bars and plain_product(n, one[thing[1]], thing[2]) != 0
+    least = tuple(plain_least_guise(n, w, sheet) for sheet in (one, other))
+    return mark == "unlike" and thing[1:] == least and least[0] != least[1]
+
+
+def promises_of(names, weights=()):
+    """All promises with some names, those of the kind "least" with some weights."""
+    pairs = list(itertools.permutations(names, 2))
+    found = [("alike", one, other) for one, other in pairs if one < other]
+    found += [(kind, one, other) for kind in ("kept", "within") for one, other in pairs]
+    return found + [("least", name, weight) for name in names for weight in weights]
+
+
+# Clocks with a weighing, and with the most rows and columns of sheets in houses that are drawn.
+HOUSE_KINDS = [
+    (2, (0, 1), 3, 4), (2, (0, 7), 2, 3), (3, (0, 1, 1), 2, 3), (3, (0, 1, 2), 3, 4), (4, (0, 1, 2, 1), 2, 3),
+    (4, (0, 1, 1, 1), 2, 2), (4, (0, 1, 2, 3), 3, 3), (5, (0, 1, 2, 2, 1), 2, 3), (6, (0, 3, 1, 2, 1, 3), 2, 3),
+    (6, (0, 1, 2, 3, 2, 1), 2, 2), (8, (0, 1, 1, 2, 1, 2, 1, 1), 1, 2), (9, (0, 3, 1, 2, 2, 1, 1, 2, 3), 1, 3),
+    (12, tuple(min(a, 12 - a) for a in range(12)), 1, 3), (30, tuple(min(a, 30 - a) for a in range(30)), 1, 2),
+]
+
+
+def related_sheet(source, n, w, sheets, rows, length):
+    """A sheet that has something in common with one of some sheets: so that promises with it often hold."""
+    if not sheets or source.randrange(4) == 0:
+        return chance_sheet(source, n, source.randrange(1, rows + 1), source.randrange(1, length + 1))
+    sheet = source.choice(sheets)
+    kind = source.randrange(3)
+    if kind == 0:
+        return sheet
+    if kind == 1:
+        exchange = source.choice(plain_exchanges(n, w, len(sheet[0])))
+        return tuple(plain_led(n, exchange, row) for row in sheet)
+    factor = source.randrange(n)
+    return tuple(tuple(factor * hour % n for hour in row) for row in sheet)
+
+
+def chance_sheets(source, n, w, rows, length, names):
+    """Some named sheets as a dict."""
+    sheets = {}
+    for name in names:
+        sheets[name] = related_sheet(source, n, w, list(sheets.values()), rows, length)
+    return sheets
+
+
+def chance_house(source, kind=None):
+    """A house with named sheets and with some promises that hold."""
+    n, w, rows, length = kind or source.choice(HOUSE_KINDS)
+    sheets = chance_sheets(source, n, w, rows, length, source.sample(NAMES, source.randrange(1, 5)))
+    house = House(n, w)
+    for name, sheet in sheets.items():
+        house.put(name, sheet)
+    promises = [
+        promise for promise in promises_of(sheets, (1, 2, 5)) if plain_holds(n, w, sheets, promise)
+    ]
+    for promise in source.sample(promises, min(len(promises), source.randrange(6))):
+        house.make(promise)
+    return house
+
+
+NAMES = ("a", "b", "ab", "zz", "row", "least", "promise", "abcdefgh", "zzzzzzzz")
+
+
+def told(house):
+    """Everything that a house tells."""
+    sheets = tuple((name, house.sheet_of(name)) for name, _ in house.names())
+    return (house.n, house.weighing(), house.names(), house.promises(), house.text(), sheets)
+
+
+def deeds_of(house):
+    """The number of the deeds done, and what a house tells ahead of and behind each deed to undo or redo."""
+    other = house.copied()
+    found = [told(other)]
+    while can(other.undo):
+        found.insert(0, told(other))
+    at = len(found)
+    other = house.copied()
+    while can(other.redo):
+        found.append(told(other))
+    return at, found
+
+
+def can(deed):
+    """Whether undo or redo does something."""
+    try:
+        deed()
+    except (errors.NothingToUndo, errors.NothingToRedo):
+        return False
+    return True
 
 
 def paths_of(thing):

@@ -4,8 +4,45 @@ import copy
 import importlib
 import inspect
 
+from hoursheets import errors
 from hoursheets.errors import HourError
-from tests.helper import Case, odd_values
+from hoursheets.houses import House
+from tests.helper import Case, deeds_of, odd_values, told
+
+
+
+def some_house():
+    """A house with sheets, a promise, deeds to undo and deeds to redo."""
+    house = House(4, (0, 1, 2, 1))
+    house.put("a", ((1, 2), (0, 2)))
+    house.put("b", ((2, 3), (2, 0)))
+    house.make(("alike", "a", "b"))
+    house.drop(("alike", "a", "b"))
+    house.put("c", ((0,),))
+    house.undo()
+    house.undo()
+    return house
+
+
+HOUSE = some_house()
+
+# For each method of a house: its parameters in order, and some right arguments.
+TELLING = {
+    "weighing": {}, "names": {}, "sheet_of": {"name": "a"}, "promises": {}, "copied": {}, "text": {},
+    "is_same": {"thing": HOUSE},
+}
+DEEDS = {
+    "put": {"name": "d", "sheet": ((1, 2),)},
+    "leave": {"name": "a"},
+    "exchange": {"name": "c", "exchange": ((0,), (3,))},
+    "add": {"name": "a", "one": 0, "other": 1, "number": 3},
+    "times": {"name": "b", "one": 1, "unit": 3},
+    "weigh": {"w": (0, 2, 3, 2)},
+    "make": {"thing": ("least", "a", 1)},
+    "drop": {"thing": ("alike", "a", "b")},
+    "undo": {},
+    "redo": {},
+}
 
 # For each module: each function, its parameters in order, and some right arguments.
 INTERFACE = {
@@ -168,12 +205,34 @@ INTERFACE = {
         "part_by": {"n": 6, "a": 2, "sheet": ((3,),)},
         "weighing_of": {"a": 2, "b": 3, "u": (0, 1), "v": (0, 1, 1)},
     },
+    "bits": {
+        "bits_of": {"row": (2, 1, 0, 3)},
+        "row_of_bits": {"thing": (1, 0, 1, 1)},
+        "open_pair": {"sheet": ((1, 0, 1), (0, 1, 1))},
+        "bit_words": {"sheet": ((2, 1),)},
+    },
+    "mending": {
+        "nearest": {"n": 2, "w": (0, 1), "sheet": ((1, 1, 1),), "row": (1, 0, 1)},
+        "lightest_on_shelf": {"n": 2, "w": (0, 1), "sheet": ((1, 1, 1),), "row": (1, 0, 1)},
+        "judge_mending": {"n": 2, "w": (0, 1), "sheet": ((1, 1, 1),), "t": 1},
+        "mending_holds": {
+            "n": 2, "w": (0, 1), "sheet": ((1, 1, 1),), "t": 2, "thing": ("clash", (0, 0, 1), (1, 1, 0)),
+        },
+        "mended": {"n": 2, "w": (0, 1), "sheet": ((1, 1, 1),), "row": (1, 0, 1), "t": 1},
+    },
+    "promises": {
+        "judge_promise": {"house": HOUSE, "promise": ("least", "a", 3)},
+        "against_holds": {"house": HOUSE, "promise": ("least", "a", 3), "thing": ("light", (2,))},
+    },
+    "texts": {
+        "read_house": {"text": "clock 4\nweights 0 1 2 1\nsheet a\nrow 1 2"},
+    },
 }
 
 # Parameters that any value may be passed as: as `thing`, or with an error that is named for it.
 LOOKED_AT = (
     "thing", "hour", "unit", "one", "other", "row", "sheet", "multipliers", "columns", "w", "counts", "images",
-    "exchange", "first", "second", "column", "weights", "v", "u", "count",
+    "exchange", "first", "second", "column", "weights", "v", "u", "count", "promise", "text",
 )
 
 
@@ -186,12 +245,42 @@ def functions():
     return found
 
 
+def shown(thing):
+    """A thing told with kinds, and a house by all that it tells."""
+    if isinstance(thing, House):
+        return ("House", told(thing), deeds_of(thing))
+    if isinstance(thing, (tuple, list)):
+        return [type(thing).__name__] + [shown(part) for part in thing]
+    if isinstance(thing, dict):
+        return ["dict"] + [(repr(key), shown(part)) for key, part in thing.items()]
+    return repr(thing)
+
+
 def outcome(function, arguments):
     """What a call returns or raises, told with kinds."""
     try:
-        return repr(function(**arguments))
+        return shown(function(**arguments))
     except HourError as error:
-        return type(error).__name__ + repr(vars(error))
+        return [type(error).__name__, shown(vars(error))]
+
+
+def with_houses():
+    """Values with houses among their parts."""
+    house = some_house()
+    return [
+        house, (house,), [house], {0: house}, (house, house), ((house,),), ((house, 1), (1, house)), (0, house),
+        ("sum", house), ("barred", house), ("tells", house, 1), ("loses", (house,)), ("by", house), ("clash", house),
+        ("made", house, house), ("unlike", house, house), ("unlike", house, 1, 2), ("counts", house),
+        ("level", 1, house),
+        ("column", house, (1, 1)), ("keeper", house, house), ("unit", house, house), ("alike", house),
+        ("alike", ((0, 1), (house, 1))), ("mends", house), ("clash", (0, 0, 1), house), ("alike", "a", house),
+        ("least", "a", house), ("least", house, 1), (house, "a", "b"), ("light", (house,)), (((0, 2), house),),
+    ]
+
+
+def looked_at(arguments):
+    """The names of the parameters that any value may be passed as."""
+    return [name for name in arguments if name in LOOKED_AT]
 
 
 def parts(thing):
@@ -218,12 +307,12 @@ class Conventions(Case):
     def test_by_position_by_name_and_mixed(self):
         for function, arguments in functions():
             values = list(arguments.values())
-            expected = function(*values)
-            self.same(function(**arguments), expected)
+            expected = shown(function(*values))
+            self.assertEqual(shown(function(**arguments)), expected)
             backwards = {name: arguments[name] for name in reversed(list(arguments))}
-            self.same(function(**backwards), expected)
+            self.assertEqual(shown(function(**backwards)), expected)
             rest = {name: arguments[name] for name in list(arguments)[1:]}
-            self.same(function(values[0], **rest), expected)
+            self.assertEqual(shown(function(values[0], **rest)), expected)
 
     def test_functions_stand_in_their_files(self):
         for module, table in INTERFACE.items():
@@ -234,7 +323,7 @@ class Conventions(Case):
     def test_results_are_tuples_integers_strings_bools_and_none(self):
         for function, arguments in functions():
             for part in parts(function(**arguments)):
-                self.assertIn(type(part), (tuple, int, str, bool, type(None)), function)
+                self.assertIn(type(part), (tuple, int, str, bool, type(None), House), function)
 
     def test_whether_is_answered_by_a_bool(self):
         for function, arguments in functions():
@@ -256,7 +345,7 @@ class Conventions(Case):
                     call = {**arguments, name: thing}
                     kept = copy.deepcopy(call)
                     outcome(function, call)
-                    self.same(call, kept)
+                    self.assertEqual(shown(call), shown(kept))
 
     def test_any_value_raises_no_other_error(self):
         for function, arguments in functions():
@@ -268,3 +357,101 @@ class Conventions(Case):
                         self.assertIs(type(function(**call)), bool)
                     else:
                         outcome(function, call)
+
+    def test_houses_among_the_values(self):
+        for function, arguments in functions():
+            asks = function.__name__.startswith("is_") or function.__name__.endswith("_holds")
+            for name in looked_at(arguments):
+                for thing in with_houses():
+                    call = {**arguments, name: thing}
+                    kept = shown(call)
+                    if asks and name == "thing":
+                        self.assertIs(function(**call), False)
+                    else:
+                        self.assertIn(outcome(function, call)[0], vars(errors), function)
+                    self.assertEqual(shown(call), kept)
+
+    def test_comparisons_raise_nothing(self):
+        things = odd_values() + with_houses()
+        for one in things:
+            for other in things:
+                self.assertIs(type(one == other), bool)
+                self.assertEqual(one != other, not one == other)
+
+
+class Methods(Case):
+    def test_parameters_have_the_names_of_the_interface(self):
+        self.assertEqual(list(inspect.signature(House).parameters), ["n", "w"])
+        for name, arguments in {**TELLING, **DEEDS}.items():
+            self.assertIn(name, vars(House))
+            parameters = list(inspect.signature(getattr(House, name)).parameters.values())[1:]
+            self.assertEqual([parameter.name for parameter in parameters], list(arguments), name)
+            for parameter in parameters:
+                self.assertIs(parameter.kind, inspect.Parameter.POSITIONAL_OR_KEYWORD)
+                self.assertIs(parameter.default, inspect.Parameter.empty)
+        self.assertEqual((House.__module__, House.__bases__), ("hoursheets.houses", (object,)))
+
+    def house_for(self, name):
+        """A house in which a deed can be done."""
+        house = some_house()
+        if name == "exchange":
+            house.redo()
+            house.redo()
+        return house
+
+    def test_by_position_and_by_name(self):
+        for name, arguments in {**TELLING, **DEEDS}.items():
+            one, other, third = (self.house_for(name) for _ in range(3))
+            found = shown(getattr(one, name)(*arguments.values()))
+            self.assertEqual(shown(getattr(other, name)(**arguments)), found)
+            backwards = {word: arguments[word] for word in reversed(list(arguments))}
+            self.assertEqual(shown(getattr(third, name)(**backwards)), found)
+            self.assertEqual([shown(other), shown(third)], [shown(one)] * 2)
+            if name in DEEDS:
+                self.assertEqual(found, "None")
+
+    def test_only_deeds_undo_and_redo_change_a_house(self):
+        for name, arguments in TELLING.items():
+            house = some_house()
+            before = shown(house)
+            getattr(house, name)(**arguments)
+            self.assertEqual(shown(house), before)
+        for name, arguments in DEEDS.items():
+            house = self.house_for(name)
+            before = shown(house)
+            getattr(house, name)(**arguments)
+            self.assertNotEqual(shown(house), before)
+        house = some_house()
+        before = shown(house)
+        for function, arguments in functions():
+            for name in looked_at(arguments):
+                outcome(function, {**arguments, name: house})
+            if "house" in arguments:
+                outcome(function, {**arguments, "house": house})
+        self.assertEqual(shown(house), before)
+
+    def test_any_value_raises_no_other_error_and_changes_nothing(self):
+        for name, arguments in {**TELLING, **DEEDS}.items():
+            for word in arguments:
+                for thing in odd_values() + with_houses():
+                    house = self.house_for(name)
+                    before = shown(house)
+                    call = {**arguments, word: thing}
+                    kept = shown(call)
+                    found = outcome(getattr(house, name), call)
+                    if found[0] in vars(errors):
+                        self.assertEqual(shown(house), before)
+                    elif name in DEEDS:
+                        self.assertEqual(found, "None")
+                    else:
+                        self.assertTrue(found in ("True", "False") if name == "is_same" else thing == "a")
+                    self.assertEqual(shown(call), kept)
+
+    def test_the_same_call_answers_alike(self):
+        for name, arguments in {**TELLING, **DEEDS}.items():
+            for thing in odd_values() + list(arguments.values()):
+                for word in arguments:
+                    one, other = self.house_for(name), self.house_for(name)
+                    call = {**arguments, word: thing}
+                    self.assertEqual(outcome(getattr(one, name), call), outcome(getattr(other, name), call))
+                    self.assertEqual(shown(one), shown(other))

@@ -261,7 +261,8 @@ class TurnedZeros(Case):
     def test_zero_counts_of_long_sheets(self):
         source = chance(423)
         for n in (2, 3, 4, 6):
-            sheet = tuple(tuple(int(i == j) for j in range(18)) + tuple(source.choices(range(n), k=2)) for i in range(18))
+            ends = [tuple(source.choices(range(n), k=2)) for _ in range(18)]
+            sheet = tuple(tuple(int(i == j) for j in range(18)) + ends[i] for i in range(18))
             behind = annulled(n, sheet)
             found = turned_zeros(n, zero_counts(n, behind))
             self.assertEqual(sum(top for top, bottom in found), many_words(n, sheet))

@@ -161,6 +161,30 @@ class Language(Case):
             for node in tree.body:
                 if isinstance(node, (ast.FunctionDef, ast.ClassDef)):
                     self.assertTrue(ast.get_docstring(node), (name, node.name))
+                for part in node.body if isinstance(node, ast.ClassDef) else []:
+                    if isinstance(part, ast.FunctionDef) and part.name != "__init__":
+                        self.assertTrue(ast.get_docstring(part), (name, part.name))
+
+    def test_classes(self):
+        for name, tree in trees().items():
+            for node in ast.walk(tree):
+                if not isinstance(node, ast.ClassDef):
+                    continue
+                methods = [part.name for part in node.body if isinstance(part, ast.FunctionDef)]
+                self.assertEqual(len(methods), len(set(methods)), (name, node.name))
+                kept = {
+                    part.attr for part in ast.walk(node)
+                    if isinstance(part, ast.Attribute) and isinstance(part.ctx, ast.Store)
+                }
+                self.assertEqual(kept & set(methods), set(), (name, node.name))
+                self.assertEqual({word for word in methods if word.startswith("__")} - {"__init__"}, set())
+
+    def test_no_set_is_added_to(self):
+        # The houses have a method of that name, so it is not called on sets.
+        for name, tree in trees().items():
+            called = [node.func for node in ast.walk(tree) if isinstance(node, ast.Call)]
+            names = {part.attr for part in called if isinstance(part, ast.Attribute)}
+            self.assertEqual(names & {"add", "discard"}, set(), name)
 
     def test_the_sign_of_remainders_stands_in_no_string(self):
         for name, tree in trees().items():

@@ -8,8 +8,8 @@ from hoursheets.level import judge_level, level_counts, level_holds, level_lengt
 from hoursheets.lists import counts_of, is_counts, list_of, list_of_counts, sheet_of_counts
 from hoursheets.telling import weighing_holds
 from tests.helper import (
-    CLOCKS, SHAPES, SMALL_SHAPES, Case, losers, misshapen, no_weighings, odd_values, plain_columns, plain_list,
-    plain_read_back, rows_of, sheets_of, telling_weighings, weighings_of, with_another_integer,
+    SHAPES, SMALL_SHAPES, Case, losers, misshapen, no_weighings, odd_values, plain_columns, plain_read_back, rows_of,
+    sheets_of, telling_weighings, with_another_integer,
 )
 
 FUNCTIONS = (level_counts, judge_level, level_length)

@@ -9,9 +9,9 @@ from hoursheets.lists import counts_of, is_counts, list_of, list_of_counts
 from hoursheets.readback import judge_list, list_holds, read_back
 from hoursheets.telling import weighing_holds
 from tests.helper import (
-    SHAPES, SMALL_SHAPES, Case, alike_list, chance, chance_sheet, in_pairs, losers, misshapen, no_weighings, odd_values,
-    plain_class, plain_columns, plain_keepers, plain_list, plain_read_back, rows_of, sheets_of, telling_weighings,
-    weighings_of, with_another_integer,
+    SHAPES, SMALL_SHAPES, Case, alike_list, chance, chance_sheet, in_pairs, losers, misshapen, no_weighings,
+    odd_values, plain_columns, plain_keepers, plain_list, plain_read_back, rows_of, sheets_of, telling_weighings,
+    with_another_integer,
 )
 
 FUNCTIONS = (read_back, judge_list)
