@@ -3,7 +3,7 @@
 from itertools import permutations
 
 from hoursheets.certificates import is_kind
-from hoursheets.exchanges import both, is_exchange, sheet_led_by, undone
+from hoursheets.exchanges import is_exchange, sheet_led_by
 from hoursheets.multipliers import tuples_over
 from hoursheets.reduced import reduced, same_words
 from hoursheets.rows import is_sheet, need_like_sheets
@@ -50,14 +50,22 @@ def need_weighed_sheets(n, w, one, other):
     need_like_sheets(n, one, other)
 
 
+def exchange_between(n, w, one, other):
+    """An exchange that leads the one sheet to a sheet with the words of the other one; None if there is none."""
+    start, goal = reduced(n, one), reduced(n, other)
+    for exchange in exchanges_over(keepers(n, w), len(one[0])):
+        if reduced(n, sheet_led_by(n, exchange, start)) == goal:
+            return exchange
+    return None
+
+
 def judge_alike(n, w, one, other):
     """A certificate that two sheets are alike, or that their least guises are unlike."""
     need_weighed_sheets(n, w, one, other)
-    guise, exchange = least_guise(n, w, one)
-    another, back = least_guise(n, w, other)
-    if guise != another:
-        return ("unlike", guise, another)
-    return ("alike", both(n, w, exchange, undone(n, w, back)))
+    exchange = exchange_between(n, w, one, other)
+    if exchange is not None:
+        return ("alike", exchange)
+    return ("unlike", least_guise(n, w, one)[0], least_guise(n, w, other)[0])
 
 
 def is_leading(n, w, one, other, exchange):
@@ -80,4 +88,5 @@ def alike_holds(n, w, one, other, thing):
 
 def are_alike(n, w, one, other):
     """Whether some exchange leads the one sheet to a sheet with the words of the other one."""
-    return judge_alike(n, w, one, other)[0] == "alike"
+    need_weighed_sheets(n, w, one, other)
+    return exchange_between(n, w, one, other) is not None
